@@ -11,9 +11,8 @@ import (
 
 const limbBits = 32
 
-// signed returns the integer with the given limbs, whose memory it takes over; they may have leading zeros.
-func signed(neg bool, limbs []uint32) api.Big {
-	m := trim(limbs)
+// signed returns the integer with the magnitude m, whose memory it takes over.
+func signed(neg bool, m []uint32) api.Big {
 	if len(m) == 0 {
 		return api.Big{}
 	}
