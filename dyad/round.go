@@ -70,7 +70,7 @@ func isPrec(prec int) bool {
 	return prec >= 1 && prec <= api.MaxPrec
 }
 
-// withTail returns 2 m, or 2 m + 1 if digits behind those of m were lost. If m has more than prec bits, the last bit stands for all these digits: it lies behind the middle of two neighbouring numbers of prec bits.
+// withTail returns 2 m, or 2 m + 1 if digits behind those of m were lost. The last bit stands for all of them: if m has more than prec bits, it tells the number from a multiple and from the middle of two, which is all that rounding asks.
 func withTail(m api.Big, lost bool) api.Big {
 	twice, _ := integer.Shift(m, 1)
 	if lost {
