@@ -6,6 +6,7 @@ import (
 	"sparse/dyad"
 	"sparse/float"
 	"sparse/integer"
+	"sparse/mirror"
 )
 
 // file reads the whole file.
@@ -21,7 +22,7 @@ func (r *reader) file() api.File {
 	}
 	_, ok := r.nextUnskipped()
 	require(!ok, api.ErrEnd)
-	f.Matrix = assemble(s.rows, s.cols, withMirrored(l, f.Symmetry))
+	f.Matrix = mirror.Matrix(s.rows, s.cols, l, f.Symmetry)
 	return f
 }
 
@@ -52,8 +53,19 @@ func sizesOf(words []string, f api.File) sizes {
 	} else {
 		s.entries = counts[2].upTo(api.MaxEntries)
 	}
-	require(room(s.entries, f.Symmetry) <= api.MaxEntries, api.ErrSize)
+	require(mirror.Room(s.entries, f.Symmetry) <= api.MaxEntries, api.ErrSize)
 	return s
+}
+
+// places returns entries without values at all positions that may be written, in the order of an array.
+func places(rows, cols, symmetry int) []api.Entry {
+	var l []api.Entry
+	for j := range cols {
+		for i := mirror.FirstRow(symmetry, j); i < rows; i++ {
+			l = append(l, api.Entry{Row: i, Col: j})
+		}
+	}
+	return l
 }
 
 // arrayEntries reads the entries of a file of the format array.
@@ -89,7 +101,7 @@ func entryOf(words []string, f api.File, s sizes) api.Entry {
 		require(len(words) == 3, api.ErrEntry)
 	}
 	a := api.Entry{Row: indexOf(words[0], s.rows), Col: indexOf(words[1], s.cols), Value: api.One}
-	require(a.Row >= firstRow(f.Symmetry, a.Col), api.ErrEntry)
+	require(a.Row >= mirror.FirstRow(f.Symmetry, a.Col), api.ErrEntry)
 	if f.Field != api.FieldPattern {
 		a.Value = valueOf(words[2], f.Field)
 	}
